@@ -1,0 +1,43 @@
+"""What values are: wholes, deeds, letters, rows; and the errors for those that are not."""
+
+from meankept.errors import BadDeeds, BadRow
+from meankept.letters import plain_letters
+
+MOST_DEEDS = 4
+MOST_LETTERS = 200
+
+
+def is_whole(value):
+    """Return whether value is a whole."""
+    # True and False are of the kind int, too.
+    return isinstance(value, int) and not isinstance(value, bool)
+
+
+def is_whole_from(value, low, high):
+    """Return whether value is a whole from low to high."""
+    return is_whole(value) and low <= value <= high
+
+
+def is_letter(deeds, value):
+    """Return whether value is a letter of so many deeds."""
+    return is_whole_from(value, -deeds, deeds) and value != 0
+
+
+def is_letter_row(deeds, value):
+    """Return whether value is a row of so many deeds, which are checked already."""
+    if not isinstance(value, tuple) or len(value) > MOST_LETTERS:
+        return False
+    return all([is_letter(deeds, item) for item in value])
+
+
+def check_deeds(deeds):
+    """Raise BadDeeds unless deeds is a number of deeds."""
+    if not is_whole_from(deeds, 1, MOST_DEEDS):
+        raise BadDeeds(f"deeds must be a whole from 1 to {MOST_DEEDS}")
+
+
+def taken_row(deeds, row):
+    """Return the plain row for which a passed row counts; raise BadRow if it is none."""
+    if not is_letter_row(deeds, row):
+        raise BadRow(f"a row must be a tuple of at most {MOST_LETTERS} letters")
+    return plain_letters(row)
