@@ -1,10 +1,11 @@
-"""What values are: wholes, deeds, letters, rows; and the errors for those that are not."""
+"""What values are: wholes, deeds, letters, rows, places; and the errors for those that are not."""
 
-from meankept.errors import BadDeeds, BadRow
+from meankept.errors import BadDeeds, BadPlace, BadRow, BadRows
 from meankept.letters import plain_letters
 
 MOST_DEEDS = 4
 MOST_LETTERS = 200
+MOST_ROWS = 6
 
 
 def is_whole(value):
@@ -41,3 +42,18 @@ def taken_row(deeds, row):
     if not is_letter_row(deeds, row):
         raise BadRow(f"a row must be a tuple of at most {MOST_LETTERS} letters")
     return plain_letters(row)
+
+
+def taken_rows(deeds, rows):
+    """Return the list of the plain rows for which passed rows count; raise BadRows if they are none."""
+    if not isinstance(rows, (list, tuple)) or len(rows) > MOST_ROWS:
+        raise BadRows(f"rows must be a list of at most {MOST_ROWS} rows")
+    if not all([is_letter_row(deeds, row) for row in rows]):
+        raise BadRows(f"each of rows must be a tuple of at most {MOST_LETTERS} letters")
+    return [plain_letters(row) for row in rows]
+
+
+def check_place(places, place):
+    """Raise BadPlace unless place is one of so many places."""
+    if not is_whole_from(place, 0, places - 1):
+        raise BadPlace(f"a place must be a whole from 0 to {places - 1}")

@@ -20,3 +20,18 @@ def undone_letters(letters):
 def turned_letters(letters, by):
     """Return the plain row of letters turned by the row by."""
     return plain_letters(by + letters + undone_letters(by))
+
+
+def met_letters(one, other):
+    """Return how many letters the end of one and the beginning of other take out of one another."""
+    most = min(len(one), len(other))
+    many = 0
+    while many < most and one[-1 - many] == -other[many]:
+        many += 1
+    return many
+
+
+def product_letters(one, other):
+    """Return the product of two plain rows."""
+    many = met_letters(one, other)
+    return one[:len(one) - many] + other[many:]

@@ -38,6 +38,65 @@ def not_times():
     return NOT_WHOLES + [-21, 21, 10 ** 29, -10 ** 29]
 
 
+def not_lists(deeds):
+    """Return values that are no lists of at most 6 rows of so many deeds."""
+    plain_wrong = [value for value in any_values() if value != []]
+    return plain_wrong + [
+        0, 1, -1, (1,), (1, 2), [1], [1, 2], "ab", {(1,): (1,)}, {(): ()}, [[1]], [[]], ([],), [None], [True],
+        [(1,), (deeds + 1,)], [(-deeds - 1,)], [(0,)], [(1,), (1, True)], [(False,)], [(1,), 1], [((1,),)],
+        [("a",)], ["a"], [(1,), None], [{}], [()] * 7, ((1,),) * 7, [(1,)] * 2000, [(1,) * 201],
+        [(1,), (1, -1) * 100 + (1,)]]
+
+
+def not_houses(deeds):
+    """Return values that are no houses with so many deeds, 2 or more."""
+    two = (0, 1)
+    return any_values() + [
+        0, 1, (), two, (two,) * (deeds + 1), (two,) * (deeds - 1), [two] * deeds, (list(two),) * deeds,
+        ((),) * deeds, (two,) * (deeds - 1) + ((),), (two,) * (deeds - 1) + ((0, 1, 2),),
+        (two,) * (deeds - 1) + ((0, 0),), (two,) * (deeds - 1) + ((0, 1, 1),), (two,) * (deeds - 1) + ((1, 2),), (two,) * (deeds - 1) + ((-1, 0),),
+        ((False, True),) * deeds, (two,) * (deeds - 1) + ((0, True),), (two,) * (deeds - 1) + ((False, 1),),
+        (two,) * (deeds - 1) + ([0, 1],), (two,) * (deeds - 1) + ("01",), (two,) * (deeds - 1) + (None,),
+        (two,) * (deeds - 1) + ((0, None),), (two,) * (deeds - 1) + ((0, (1,)),), ((two,),) * deeds,
+        (two,) * (deeds - 1) + ({0: 0, 1: 1},), (tuple(range(61)),) * deeds, (tuple(range(1, 61)),) * deeds,
+        (tuple(range(59)) + (10 ** 29,),) * deeds]
+
+
+def not_in(places):
+    """Return values that are none of so many places."""
+    return NOT_WHOLES + [-1, places, places + 1, 10 ** 29, -10 ** 29]
+
+
+def not_webs():
+    """Return values that are no webs, most of them of two deeds and nearly webs."""
+    whole = ((0, 1, 0), (0, 2, 0))
+    return any_values() + [
+        0, 1, (), (2,), (2, 1), (2, 1, whole, ()), [2, 1, whole], (2, 1, list(whole)), (2, 1, ([0, 1, 0],)),
+        (2, 1, {(0, 1, 0): 1}), (2, 1, "010"), (2, 1, None), (2, 1, (0, 1, 0)), (2, 1, ((0, 1),)),
+        (2, 1, ((0, 1, 0, 0),)), (2, 1, ("010",)), (2, 1, (None,)), (2, 1, (((0, 1, 0),),)),
+        (0, 1, ()), (5, 1, ()), (-1, 1, ()), (True, 1, ()), (False, 1, ()), (None, 1, ()), ("2", 1, ()),
+        ((2,), 1, ()), (2, 0, ()), (2, -1, ()), (2, True, ()), (2, True, whole), (2, None, ()), (2, "1", ()),
+        (2, (1,), ()), (2, 2, ()), (2, 10 ** 29, ()), (2, 10 ** 29, whole), (10 ** 29, 1, ()),
+        # Wrong ties.
+        (1, 1, whole), (2, 1, ((0, 3, 0),)), (2, 1, ((0, 0, 0),)), (2, 1, ((0, -1, 0),)), (2, 1, ((0, 1, 1),)),
+        (2, 1, ((1, 1, 0),)), (2, 1, ((-1, 1, 0),)), (2, 1, ((0, 1, -1),)), (2, 1, ((False, 1, 0),)),
+        (2, 1, ((0, True, 0),)), (2, 1, ((0, 1, False),)), (2, 2, ((0, 1, True), (1, 1, 0))),
+        (2, 1, ((0, None, 0),)), (2, 1, ((0, "1", 0),)), (2, 1, ((0, (1,), 0),)), (2, 1, ((0, 1, [0]),)),
+        # Not ascending, or not unlike.
+        (2, 1, ((0, 2, 0), (0, 1, 0))), (2, 1, ((0, 1, 0), (0, 1, 0))), (2, 2, ((1, 1, 0), (0, 1, 1))),
+        # Not folded: two ties from one place, two ties to one place.
+        (2, 2, ((0, 1, 0), (0, 1, 1), (1, 2, 1))), (2, 2, ((0, 1, 1), (1, 1, 1))),
+        (2, 2, ((0, 1, 1), (0, 2, 1), (1, 1, 1))),
+        # A place that cannot be reached, with ends and without any.
+        (2, 2, whole), (2, 2, whole + ((1, 1, 1),)), (2, 3, ((0, 1, 0), (1, 1, 2), (1, 2, 2), (2, 1, 1))),
+        # A place with one end of a tie.
+        (2, 2, ((0, 1, 1),)), (2, 2, ((0, 1, 1), (0, 2, 0))), (2, 3, ((0, 1, 1), (1, 1, 2), (1, 2, 1))),
+        (2, 2, ((1, 1, 0),)), (1, 2, ((0, 1, 1),)),
+        # Not numbered: as if another place were met first, or other letters were tried first.
+        (2, 3, ((0, 1, 2), (0, 2, 1), (1, 1, 0), (2, 2, 0))), (2, 3, ((0, 1, 2), (1, 1, 0), (2, 1, 1))),
+        (2, 3, ((0, 2, 1), (1, 2, 0), (2, 1, 0), (2, 2, 2))), (1, 3, ((0, 1, 2), (1, 1, 0), (2, 1, 1)))]
+
+
 def letters(deeds):
     """Return all letters of so many deeds."""
     return [x for x in range(-deeds, deeds + 1) if x != 0]
@@ -102,3 +161,76 @@ def check_first_wrong(test, function, right, wrong):
                     with test.assertRaises(error) as caught:
                         call()
                     test.assertIs(type(caught.exception), error, (name, value))
+
+
+def step(house, letter, place):
+    """Return the place to which a letter leads a place of a house."""
+    if letter > 0:
+        return house[letter - 1][place]
+    return house[-letter - 1].index(place)
+
+
+def lead(house, row, place):
+    """Return the place to which a row leads a place of a house, letter by letter."""
+    for letter in row:
+        place = step(house, letter, place)
+    return place
+
+
+def houses_of(deeds, places):
+    """Return all houses of so many places."""
+    return list(itertools.product(itertools.permutations(range(places)), repeat=deeds))
+
+
+def follow(web, row, place=0):
+    """Return the place to which a row is read from a place of a web, None if it cannot be read."""
+    ties = web[2]
+    for letter in row:
+        if letter > 0:
+            goals = [goal for start, deed, goal in ties if (start, deed) == (place, letter)]
+        else:
+            goals = [start for start, deed, goal in ties if (goal, deed) == (place, -letter)]
+        if not goals:
+            return None
+        (place,) = goals
+    return place
+
+
+def tell(rows, spelling):
+    """Return the plain row that a spelling for rows tells."""
+    found = []
+    for number in spelling:
+        for letter in rows[number - 1] if number > 0 else back(rows[-number - 1]):
+            if found and found[-1] == -letter:
+                found.pop()
+            else:
+                found.append(letter)
+    return tuple(found)
+
+
+def is_plain_spelling(rows, spelling):
+    """Return whether a value is a plain spelling for rows."""
+    if type(spelling) is not tuple or not all(type(number) is int for number in spelling):
+        return False
+    return all(1 <= abs(number) <= len(rows) for number in spelling) and is_plain(spelling)
+
+
+def some_lists(many, size, seed):
+    """Return so many pairs (deeds, rows), rows of up to so many letters, often with much in common."""
+    source = random.Random(seed)
+    found = []
+    for _ in range(many):
+        deeds = source.randint(1, 4)
+        lots = letters(deeds)
+        parts = [tuple(source.choice(lots) for _ in range(source.randint(0, size)))
+                 for _ in range(source.randint(1, 5))]
+        rows = []
+        for _ in range(source.randint(0, 6)):
+            row = ()
+            for _ in range(source.randint(0, 3)):
+                part = source.choice(parts)
+                longer = afresh(row + (part if source.random() < 0.6 else back(part)))
+                row = longer if len(longer) <= 2 * size else row
+            rows.append(row)
+        found.append((deeds, rows))
+    return found

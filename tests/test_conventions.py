@@ -4,14 +4,21 @@ import ast
 import copy
 import importlib
 import inspect
+import itertools
 import os
 import unittest
 
 import meankept
 from meankept.errors import BadDeeds, BadNumber, BadRow, KeepError
+from meankept.full import filled, full_webs, house_web, is_full, rest
+from meankept.houses import is_house, kept, least_house, led, total_kept
+from meankept.lists import are_changes, changed, changes_between, freed
+from meankept.made import made_of, nothing_of
 from meankept.numbers import is_number, number
 from meankept.rings import meet_power, ring_of, root, turner
 from meankept.rows import beside, is_row, plain, sums, times_row, undone
+from meankept.webs import (free_list, is_over, is_web, made_power, makes, rank, read, spelled, told_row, ways,
+                           web_of)
 from tests.helpers import any_values, nested
 
 FOLDER = os.path.dirname(meankept.__file__)
@@ -22,15 +29,40 @@ INTERFACE = {
              "times_row(deeds, row, many)", "sums(deeds, row)"],
     "rings": ["ring_of(deeds, row)", "turner(deeds, one, other)", "root(deeds, row)",
               "meet_power(deeds, one, other)"],
+    "houses": ["is_house(deeds, value)", "led(deeds, house, row, place)", "kept(deeds, house, rows)",
+               "total_kept(deeds, rows, places)", "least_house(deeds, row)"],
+    "webs": ["is_web(value)", "web_of(deeds, rows)", "read(web, row, place)", "makes(web, row)", "rank(web)",
+             "ways(web)", "free_list(web)", "spelled(web, row)", "told_row(web, spelling)",
+             "is_over(one, other)", "made_power(web, row)"],
+    "full": ["is_full(web)", "filled(web)", "house_web(deeds, house, place)", "rest(web, row)",
+             "full_webs(deeds, places)"],
+    "lists": ["changed(deeds, rows, change)", "freed(deeds, rows)", "changes_between(deeds, one, other)",
+              "are_changes(deeds, one, other, value)"],
+    "made": ["made_of(deeds, rows, row)", "nothing_of(deeds, rows)"],
 }
+
+HOUSE = ((1, 2, 0), (0, 2, 1))
+PAIR = (2, 2, ((0, 1, 1), (0, 2, 0), (1, 1, 0), (1, 2, 1)))
 
 CALLS = [
     (is_number, ((3, 2),)), (number, (6, 4)), (is_row, (2, (1, -1))), (plain, (2, (1, -1, 2))),
     (undone, (2, (1, 2))), (beside, (2, (1, 2), (-2, 1))), (times_row, (2, (1, 2, -1), -3)),
     (sums, (2, (1, 2, 2))), (ring_of, (2, (2, 1, 1, -2))), (turner, (2, (1, 2), (2, 1))),
     (turner, (2, (1,), (-1,))), (root, (2, (2, 1, 1, -2))), (meet_power, (2, (1, 1), (-1, -1, -1))),
-    (meet_power, (2, (1, 1), (2,))),
+    (meet_power, (2, (1, 1), (2,))), (is_house, (2, HOUSE)), (led, (2, HOUSE, (1, 2), 0)),
+    (kept, (2, HOUSE, [(2,), (1, -1)])), (total_kept, (2, [(1, 2, -1, -2)], 3)), (least_house, (2, (1, 1))),
+    (is_web, (PAIR,)), (web_of, (2, [(1, 1), (1, 2, -1)])), (read, (PAIR, (1, 2), 1)), (makes, (PAIR, (1, 1))),
+    (rank, (PAIR,)), (ways, (PAIR,)), (free_list, (PAIR,)), (spelled, (PAIR, (1, 2, 1))),
+    (told_row, (PAIR, (1, -2, 3))), (is_over, (PAIR, PAIR)), (made_power, (PAIR, (1, 2))), (is_full, (PAIR,)),
+    (filled, (PAIR,)), (house_web, (2, HOUSE, 1)), (rest, (PAIR, (1, 2))), (full_webs, (2, 3)),
+    (changed, (2, [(1, 2), (2,)], ("put", 0, 1))), (freed, (2, [(1, 2), (2,)])),
+    (changes_between, (2, [(1, 2), (2,)], [(1,), (2,)])), (made_of, (2, [(1, 1), (2,)], (1,))),
+    (made_of, (2, [(1, 1, 2), (1, 2)], (2,))), (nothing_of, (2, [(1,), (1, 1)])),
+    (are_changes, (2, [(1, 2), (2,)], [(1,), (2,)], [("undo", 1), ("put", 0, 1), ("undo", 1)])),
 ]
+KINDS = {is_number: bool, is_row: bool, is_house: bool, led: int, kept: list, total_kept: int, is_web: bool,
+         read: int, makes: bool, rank: int, ways: list, free_list: list, is_over: bool, made_power: int,
+         is_full: bool, full_webs: list, changed: list, freed: list, changes_between: list, are_changes: bool}
 
 
 class InterfaceTest(unittest.TestCase):
@@ -83,9 +115,28 @@ class CallsTest(unittest.TestCase):
             self.assertEqual(value, elder)
 
     def test_only_what_is_told_is_returned(self):
-        kinds = {is_number: bool, is_row: bool, number: tuple}
         for function, given in CALLS:
-            self.assertIs(type(function(*given)), kinds.get(function, tuple))
+            self.assertIs(type(function(*given)), KINDS.get(function, tuple))
+
+    def test_all_calls_are_there(self):
+        names = {line.split("(")[0] for told in INTERFACE.values() for line in told}
+        self.assertEqual({function.__name__ for function, _ in CALLS}, names)
+
+    def test_what_is_passed_in_stays_and_what_is_returned_is_new(self):
+        for function, given in CALLS:
+            elder = copy.deepcopy(given)
+            found = function(*given)
+            right = copy.deepcopy(found)
+            if isinstance(found, list):
+                found.append("more")
+                self.assertEqual(function(*given), right)
+            self.assertEqual(given, elder)
+
+    def test_lists_of_rows_may_be_tuples(self):
+        for function, given in CALLS:
+            for names in itertools.product([list, tuple], repeat=len(given)):
+                other = [kind(value) if isinstance(value, list) else value for kind, value in zip(names, given)]
+                self.assertEqual(function(*other), function(*given))
 
 
 class ValuesTest(unittest.TestCase):

@@ -158,6 +158,25 @@ class FormTest(unittest.TestCase):
                 special = re.fullmatch(r"__[a-z]+__", word)
                 self.assertTrue(special or re.fullmatch(r"_?[A-Za-z][A-Za-z0-9_]*|_", word), (name, word))
 
+    def test_no_local_name_hides_a_name_of_the_file(self):
+        for name, tree in self.trees.items():
+            outer = {alias.asname or alias.name for node in tree.body if isinstance(node, ast.ImportFrom)
+                     for alias in node.names} | top_names(tree)
+            for node in ast.walk(tree):
+                if isinstance(node, ast.arg):
+                    self.assertNotIn(node.arg, outer, name)
+                if isinstance(node, ast.Name) and not isinstance(node.ctx, ast.Load) and node.col_offset > 0:
+                    self.assertNotIn(node.id, outer, name)
+
+    def test_library_names_are_only_called(self):
+        for name, tree in self.trees.items():
+            taken = {alias.name for node in tree.body
+                     if isinstance(node, ast.ImportFrom) and node.module in LIBRARY for alias in node.names}
+            called = [node.func for node in ast.walk(tree) if isinstance(node, ast.Call)]
+            for node in ast.walk(tree):
+                if isinstance(node, ast.Name) and node.id in taken:
+                    self.assertIn(node, called, name)
+
     def test_each_function_and_class_says_what_it_is(self):
         for name, tree in self.trees.items():
             self.assertTrue(ast.get_docstring(tree), name)
