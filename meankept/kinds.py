@@ -24,11 +24,14 @@ def is_letter(deeds, value):
     return is_whole_from(value, -deeds, deeds) and value != 0
 
 
+def are_letters(deeds, value):
+    """Return whether value is a tuple of letters of so many deeds, which are checked already."""
+    return isinstance(value, tuple) and all([is_letter(deeds, item) for item in value])
+
+
 def is_letter_row(deeds, value):
     """Return whether value is a row of so many deeds, which are checked already."""
-    if not isinstance(value, tuple) or len(value) > MOST_LETTERS:
-        return False
-    return all([is_letter(deeds, item) for item in value])
+    return are_letters(deeds, value) and len(value) <= MOST_LETTERS
 
 
 def check_deeds(deeds):

@@ -35,3 +35,15 @@ def product_letters(one, other):
     """Return the product of two plain rows."""
     many = met_letters(one, other)
     return one[:len(one) - many] + other[many:]
+
+
+def told_letters(rows, spelling):
+    """Return the plain row that a spelling for rows tells."""
+    parts = {}
+    for at, row in enumerate(rows):
+        parts[at + 1] = row
+        parts[-at - 1] = undone_letters(row)
+    letters = []
+    for number in spelling:
+        letters.extend(parts[number])
+    return plain_letters(letters)

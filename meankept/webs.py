@@ -3,7 +3,7 @@
 from meankept.errors import BadSpelling, BadWeb, NotMade, UnlikeWebs
 from meankept.folding import web_of_plain
 from meankept.kinds import MOST_DEEDS, check_deeds, check_place, is_whole, is_whole_from, taken_row, taken_rows
-from meankept.letters import plain_letters, undone_letters
+from meankept.letters import told_letters
 from meankept.rings import ring_and_way
 from meankept.walks import all_ways, free_rows, rank_of, spelling_of, steps_of, tried_letters, walked
 
@@ -81,14 +81,6 @@ def is_spelling(many, value):
     if not isinstance(value, tuple) or len(value) > MOST_NUMBERS:
         return False
     return all([is_whole_from(number, -many, many) and number != 0 for number in value])
-
-
-def told_letters(rows, spelling):
-    """Return the plain row that a spelling for rows tells."""
-    letters = []
-    for number in spelling:
-        letters.extend(rows[number - 1] if number > 0 else undone_letters(rows[-number - 1]))
-    return plain_letters(letters)
 
 
 def web_of(deeds, rows):

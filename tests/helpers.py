@@ -234,3 +234,143 @@ def some_lists(many, size, seed):
             rows.append(row)
         found.append((deeds, rows))
     return found
+
+
+def turned(row, by):
+    """Return row turned by the row by."""
+    return tell([by, row], (1, 2, -1))
+
+
+def naive_ring(row):
+    """Return the ring of a row, as it is told."""
+    left = tell([row], (1,))
+    while len(left) >= 2 and left[0] == -left[-1]:
+        left = left[1:-1]
+    return min([left[k:] + left[:k] for k in range(len(left))], default=())
+
+
+def naive_rings(rows):
+    """Return the tuple of the rings of rows."""
+    return tuple(naive_ring(row) for row in rows)
+
+
+def size(rows):
+    """Return how many letters rows have together."""
+    return sum(len(row) for row in rows)
+
+
+def same(deeds):
+    """Return the renaming that leaves each row."""
+    return tuple((deed,) for deed in range(1, deeds + 1))
+
+
+def in_turn(first, second):
+    """Return the renaming that does what first does and then second."""
+    return tuple(tell(second, image) for image in first)
+
+
+def naive_moves(deeds):
+    """Return the ascending list of all moves of so many deeds."""
+    found = []
+    for letter in letters(deeds):
+        others = [other for other in letters(deeds) if abs(other) != abs(letter)]
+        for many in range(1, len(others) + 1):
+            found += [(letter, lot) for lot in itertools.combinations(others, many)]
+    return sorted(found)
+
+
+def move_of(deeds, move):
+    """Return the renaming of a move, as it is told."""
+    letter, lot = move
+    images = []
+    for deed in range(1, deeds + 1):
+        image = (deed,)
+        if deed in lot:
+            image = image + (letter,)
+        if -deed in lot:
+            image = (-letter,) + image
+        images.append(image)
+    return tuple(images)
+
+
+def exchanges(deeds):
+    """Return all exchanges of so many deeds."""
+    return [tuple((sign * deed,) for sign, deed in zip(signs, order))
+            for order in itertools.permutations(range(1, deeds + 1))
+            for signs in itertools.product([1, -1], repeat=deeds)]
+
+
+def drawn_renaming(source, deeds, most):
+    """Return a drawn renaming whose images have at most so many letters together."""
+    images = source.choice(exchanges(deeds))
+    for _ in range(source.randint(0, 12) if deeds > 1 else 0):
+        move = source.choice(naive_moves(deeds))
+        longer = in_turn(images, move_of(deeds, move))
+        images = longer if size(longer) <= most else images
+    return images
+
+
+def some_renamings(many, most, seed):
+    """Return so many pairs (deeds, renaming), images of at most so many letters together."""
+    source = random.Random(seed)
+    found = []
+    for _ in range(many):
+        deeds = source.randint(1, 4)
+        found.append((deeds, drawn_renaming(source, deeds, most)))
+    return found
+
+
+def not_renamings():
+    """Return values that are no renamings of two deeds, most of them nearly."""
+    return any_values() + [
+        0, 1, (), (1, 2), ((1,),), ((1,), (2,), ()), ((1,), (2,), (1,)), [(1,), (2,)], ((1,), [2]), ([1], (2,)),
+        ((1,), 2), ((1,), "2"), ((1,), None), ((1,), {2: 2}), ((1,), (2,), None), ((True,), (2,)),
+        ((1,), (2, True)), ((1,), (2, 0)), ((1,), (3,)), ((1,), (-3,)), ((1,), (2, None)), ((1,), ((2,),)),
+        # Not plain.
+        ((1,), (2, 1, -1)), ((1, -1, 1), (2,)), ((1,), (1, -1, 2)), ((2, -2, 1), (1, -1, 2)),
+        # They do not make every row.
+        ((), ()), ((1,), ()), ((), (2,)), ((1,), (1,)), ((1,), (-1,)), ((1, 1), (2,)), ((1,), (2, 2)),
+        ((1, 2), (2, 1)), ((1, 2), (1, -2)), ((1, 2, -1, -2), (2,)), ((1, 1, 2), (2, 1, 1)), ((1, 2), (-2, -1)),
+        ((1, 1, 2), (1, 2, 2)), ((2,), (1, 2, -1))]
+
+
+def not_moves():
+    """Return values that are no moves of two deeds, most of them nearly."""
+    return any_values() + [
+        0, 1, (), (1,), (1, 2), (1, (2,), ()), [1, (2,)], (1, [2]), (1, ()), (1, 2), (1, "2"), (1, None),
+        (1, {2: 2}), (0, (2,)), (3, (2,)), (-3, (2,)), (True, (2,)), ("1", (2,)), (None, (2,)), ((1,), (2,)),
+        ((2,), 1), (1, (True,)), (1, (2, True)), (2, (True,)), (1, (0,)), (1, (-2, 0, 2)), (1, (3,)), (1, (-3,)),
+        (1, (2, 3)), (1, ((2,),)), (1, (None,)), (1, ("2",)),
+        # Not ascending, or not unlike.
+        (1, (2, -2)), (1, (2, 2)), (1, (-2, -2)), (1, (-2, 2, 2)),
+        # With the letter or its undo.
+        (1, (1,)), (1, (-1,)), (1, (1, 2)), (1, (-1, 2)), (1, (-2, 1)), (-1, (-1,)), (-1, (1,)), (2, (-2,)),
+        (2, (1, 2)), (2, (-2, -1)), (10 ** 29, (2,)), (1, (10 ** 29,))]
+
+
+def not_chains():
+    """Return values that are no chains of moves of two deeds."""
+    wrong = [value for value in any_values() if value != []]
+    wrong += [0, 1, (1, (2,)), "ab", {(1, (2,)): 1}, {}]
+    return wrong + [[value] for value in not_moves()] + [((1, (2,)), value) for value in not_moves()]
+
+
+def few_lists(many, long, seed):
+    """Return so many pairs (deeds, rows) of one to four rows, often made long by moves."""
+    source = random.Random(seed)
+    found = []
+    for _ in range(many):
+        deeds = source.randint(1, 4)
+        rows = [tuple(source.choice(letters(deeds)) for _ in range(source.choice([0, 1, 1, 2, 3, 4, 6])))
+                for _ in range(source.randint(1, 4))]
+        for _ in range(source.randint(0, 8) if deeds > 1 else 0):
+            images = move_of(deeds, source.choice(naive_moves(deeds)))
+            longer = [tell(images, row) for row in rows]
+            rows = longer if all(len(row) <= long for row in longer) else rows
+        found.append((deeds, rows))
+    return found
+
+
+def not_few_lists(deeds):
+    """Return values that are no lists of one to four rows of so many deeds."""
+    return not_lists(deeds) + [[], (), [()] * 5, ((1,),) * 5, [(1,)] * 6]

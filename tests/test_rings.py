@@ -7,23 +7,10 @@ import unittest
 from meankept.errors import BadDeeds, BadRow
 from meankept.rings import meet_power, ring_of, root, turner
 from meankept.rows import beside, is_row, plain, sums, times_row, undone
-from tests.helpers import (NOT_DEEDS, afresh, all_rows, back, check_first_wrong, is_plain, letters, not_rows,
-                           plain_rows, some_rows)
+from tests.helpers import (NOT_DEEDS, afresh, all_rows, back, check_first_wrong, is_plain, letters, naive_ring,
+                           not_rows, plain_rows, some_rows, turned)
 
 LONG = (1, 2) * 100
-
-
-def turned(row, by):
-    """Return row turned by the row by."""
-    return afresh(by + row + back(by))
-
-
-def naive_ring(row):
-    """Return the ring of a row, as it is told."""
-    left = afresh(row)
-    while len(left) >= 2 and left[0] == -left[-1]:
-        left = left[1:-1]
-    return min([left[k:] + left[:k] for k in range(len(left))], default=())
 
 
 def naive_times(row, many):
