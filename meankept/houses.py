@@ -1,14 +1,15 @@
 """Houses: where rows lead their places, which of them rows keep, and how many in all houses of a size."""
 
 from itertools import permutations
+from math import factorial, perm
 
-from meankept.errors import BadHouse, BadPlaces, TooMany
+from meankept.errors import BadHouse, TooMany
 from meankept.filling import filled_house
-from meankept.kinds import check_deeds, check_place, is_whole_from, taken_row, taken_rows
+from meankept.growing import kept_steps, ties_told
+from meankept.kinds import check_deeds, check_place, check_places, is_whole_from, taken_row, taken_rows
 from meankept.walks import add_step, house_steps, walked
 
 MOST_PLACES = 60
-MOST_PLACES_TOLD = 1000000
 MOST_HOUSES = 20000
 MOST_LETTERS_MOVED = 12
 
@@ -58,6 +59,14 @@ def all_houses(deeds, places):
     for _ in range(deeds):
         houses = [house + (order,) for house in houses for order in orders]
     return houses
+
+
+def many_houses_with(deeds, steps, places):
+    """Return how many houses of so many places have steps, whatever numbers their places but 0 have there."""
+    many = perm(places - 1, len(steps) - 1)
+    for tied in ties_told(deeds, steps):
+        many *= factorial(places - tied)
+    return many
 
 
 def lead_elsewhere(steps, letters, place, met, places):
@@ -110,12 +119,14 @@ def total_kept(deeds, rows, places):
     """Return the sum over all houses of so many places of how many places the rows keep."""
     check_deeds(deeds)
     plain_rows = taken_rows(deeds, rows)
-    if not is_whole_from(places, 1, MOST_PLACES_TOLD):
-        raise BadPlaces(f"places must be a whole from 1 to {MOST_PLACES_TOLD}")
+    check_places(places)
     if has_more_houses(deeds, places, MOST_HOUSES):
         raise TooMany(MOST_HOUSES)
+    begun = [[{}]]
+    for row in plain_rows:
+        begun = kept_steps(begun, row, 0, places)
     # Two places exchanged in all houses give all houses again: each place is kept as often as the place 0.
-    return places * sum([is_kept(house_steps(house), plain_rows, 0) for house in all_houses(deeds, places)])
+    return places * sum([many_houses_with(deeds, steps, places) for steps in begun])
 
 
 def least_house(deeds, row):

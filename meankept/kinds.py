@@ -1,11 +1,12 @@
 """What values are: wholes, deeds, letters, rows, places; and the errors for those that are not."""
 
-from meankept.errors import BadDeeds, BadPlace, BadRow, BadRows
+from meankept.errors import BadDeeds, BadPlace, BadPlaces, BadRow, BadRows
 from meankept.letters import plain_letters
 
 MOST_DEEDS = 4
 MOST_LETTERS = 200
 MOST_ROWS = 6
+MOST_PLACES_TOLD = 1000000
 
 
 def is_whole(value):
@@ -60,3 +61,9 @@ def check_place(places, place):
     """Raise BadPlace unless place is one of so many places."""
     if not is_whole_from(place, 0, places - 1):
         raise BadPlace(f"a place must be a whole from 0 to {places - 1}")
+
+
+def check_places(places):
+    """Raise BadPlaces unless places is a number of places that may be told."""
+    if not is_whole_from(places, 1, MOST_PLACES_TOLD):
+        raise BadPlaces(f"places must be a whole from 1 to {MOST_PLACES_TOLD}")

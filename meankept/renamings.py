@@ -4,7 +4,7 @@ from meankept.errors import BadRenaming, TooMany
 from meankept.folding import web_of_plain
 from meankept.images import MOST_IMAGE_LETTERS, back_images, images_behind, many_letters
 from meankept.kinds import are_letters, check_deeds, taken_row
-from meankept.letters import plain_letters, told_letters, turned_letters, undone_letters
+from meankept.letters import plain_letters, told_letters, turned_letters
 from meankept.rings import ring_and_way
 
 
@@ -60,22 +60,12 @@ def back_renaming(deeds, renaming):
     return back_images(renaming)
 
 
-def turning_of_two(one, other):
-    """Return the only row by which the deeds 1 and 2, turned, may be the images one and other."""
-    _, way = ring_and_way(one)
-    _, other_way = ring_and_way(other)
-    # Each of these ways is the row but for letters of its own deed at the end.
-    between = plain_letters(undone_letters(way) + other_way)
-    many = 0
-    while many < len(between) and between[many] in (1, -1):
-        many += 1
-    return plain_letters(way + between[:many])
-
-
 def turned_by(deeds, renaming):
     """Return a row by which each row, renamed, is turned, None if there is none."""
     check_deeds(deeds)
     check_renaming(deeds, renaming)
-    by = turning_of_two(renaming[0], renaming[1]) if deeds > 1 else ()
+    # The way of the ring to its image is the row but for letters of the deed itself at the end; so with two
+    # deeds or more one of the ways is the row.
+    by = max([ring_and_way(image)[1] for image in renaming], key=len)
     turned = [turned_letters((deed,), by) for deed in range(1, deeds + 1)]
     return by if tuple(turned) == renaming else None

@@ -1,9 +1,11 @@
 """What several tests share: wrong values, many rows, and plain ways to work things out afresh."""
 
+import fractions
 import itertools
 import random
 
 from meankept.errors import BadRow
+from meankept.webs import web_of
 
 
 def nested(depth):
@@ -374,3 +376,92 @@ def few_lists(many, long, seed):
 def not_few_lists(deeds):
     """Return values that are no lists of one to four rows of so many deeds."""
     return not_lists(deeds) + [[], (), [()] * 5, ((1,),) * 5, [(1,)] * 6]
+
+
+def number_naively(deeds, ties):
+    """Return the web of a lot of ties whose places are any values, numbered from the place "first" on.
+
+    A tie is a triple (place, deed, place).
+    """
+    leads = {}
+    for start, deed, end in ties:
+        leads[(start, deed)] = end
+        leads[(end, -deed)] = start
+    order = ["first"]
+    for place in order:
+        for letter in [sign * deed for deed in range(1, deeds + 1) for sign in (1, -1)]:
+            goal = leads.get((place, letter), place)
+            if goal not in order:
+                order.append(goal)
+    told = {(order.index(start), deed, order.index(end)) for start, deed, end in ties}
+    return (deeds, len(order), tuple(sorted(told)))
+
+
+def lots_web(web, lot_of):
+    """Return the web of the lots in which the places of a web lie, told by the least place of each."""
+    deeds, _, ties = web
+    now = {place: "first" if lot == lot_of[0] else lot for place, lot in enumerate(lot_of)}
+    return number_naively(deeds, {(now[start], deed, now[end]) for start, deed, end in ties})
+
+
+def is_sound(web, lot_of):
+    """Return whether for all ties (p, x, q), (r, x, s) p and r lie in one lot exactly if q and s do."""
+    ties = web[2]
+    return all((lot_of[p] == lot_of[r]) == (lot_of[q] == lot_of[s])
+               for (p, x, q), (r, y, s) in itertools.combinations(ties, 2) if x == y)
+
+
+def partings(many):
+    """Return all manners to part so many places into lots, each told by the lot of each place."""
+    found = [()]
+    for place in range(many):
+        found = [lots + (lot,) for lots in found for lot in sorted(set(lots) | {place})]
+    return found
+
+
+def naive_pictures(web):
+    """Return the ascending list of the pictures of a web, by all manners to part its places."""
+    found = [lots_web(web, lots) for lots in partings(web[1]) if is_sound(web, lots)]
+    assert len(found) == len(set(found))
+    return sorted(found)
+
+
+def join_naively(web, pairs):
+    """Return the web that comes of joining pairs of places of a web, and the lot of each place."""
+    lot_of = list(range(web[1]))
+
+    def join(one, other):
+        low, high = sorted([lot_of[one], lot_of[other]])
+        lot_of[:] = [low if lot == high else lot for lot in lot_of]
+
+    for one, other in pairs:
+        join(one, other)
+    while not is_sound(web, lot_of):
+        for (p, x, q), (r, y, s) in itertools.combinations(web[2], 2):
+            if x == y and lot_of[p] == lot_of[r]:
+                join(q, s)
+            if x == y and lot_of[q] == lot_of[s]:
+                join(p, r)
+    return lots_web(web, lot_of), lot_of
+
+
+def some_webs(many, most, seed):
+    """Return so many webs of at most so many places, of rows with much in common."""
+    found = []
+    for deeds, rows in some_lists(4 * many, 4, seed):
+        if len(found) < many and rows:
+            web = web_of(deeds, rows)
+            if web[1] <= most:
+                found.append(web)
+    return found
+
+
+def kept_counts(deeds, rows, places):
+    """Return the list of how many places rows keep, for each house of so many places."""
+    return [sum(all(lead(house, row, place) == place for row in rows) for place in range(places))
+            for house in houses_of(deeds, places)]
+
+
+def worth(value):
+    """Return what a number is worth."""
+    return fractions.Fraction(value) if isinstance(value, int) else fractions.Fraction(*value)

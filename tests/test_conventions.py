@@ -9,16 +9,20 @@ import os
 import unittest
 
 import meankept
+from meankept.between import fewest, free_in, joinings, lengthened, within
 from meankept.errors import BadDeeds, BadNumber, BadRow, KeepError
+from meankept.fractions import mean_fraction
 from meankept.full import filled, full_webs, house_web, is_full, rest
 from meankept.houses import is_house, kept, least_house, led, total_kept
 from meankept.levels import alike, form, level
 from meankept.lists import are_changes, changed, changes_between, freed
 from meankept.made import made_of, nothing_of
+from meankept.means import mean, mean_square, share
 from meankept.moves import back_move, chain_of, chained, is_move, move_renaming, moves
 from meankept.neighbours import (cut_down, cut_letters, cut_move, groups, length_behind, loose_letters, neighbours,
                                  pieces)
 from meankept.numbers import is_number, number
+from meankept.pictures import joined, joint, laid, lies_over, part, pictures, pictures_of, seen
 from meankept.renamings import back_renaming, behind, is_renaming, renamed, turned_by
 from meankept.rings import meet_power, ring_of, root, turner
 from meankept.rows import beside, is_row, plain, sums, times_row, undone
@@ -57,9 +61,18 @@ INTERFACE = {
                  "is_shortest(deeds, rows)", "is_chain(deeds, rows, thing)", "shortened(deeds, rows)",
                  "as_letter(deeds, row)", "slope(first, second)", "needed(deeds, rows)", "parted(deeds, rows)"],
     "levels": ["level(deeds, rows)", "form(deeds, rows)", "alike(deeds, one, other)"],
+    "pictures": ["laid(inner, outer)", "part(inner, outer)", "lies_over(one, other)", "joined(web, place, mate)",
+                 "pictures_of(web)", "pictures(deeds, rows)", "seen(deeds, rows, house, place)",
+                 "joint(one, other)"],
+    "means": ["share(web, places)", "mean(deeds, rows, places)", "mean_square(deeds, row, places)"],
+    "fractions": ["mean_fraction(deeds, rows)"],
+    "between": ["within(inner, outer)", "joinings(inner, outer)", "fewest(web)", "free_in(inner, outer)",
+                "lengthened(inner, outer)"],
 }
 
 HOUSE = ((1, 2, 0), (0, 2, 1))
+COMMUTATOR = (2, 4, ((0, 1, 1), (0, 2, 2), (1, 2, 3), (2, 1, 3)))
+WHOLE = (2, 1, ((0, 1, 0), (0, 2, 0)))
 PAIR = (2, 2, ((0, 1, 1), (0, 2, 0), (1, 1, 0), (1, 2, 1)))
 NIELSEN = ((1, 2, 1), (1, 2))
 
@@ -89,13 +102,20 @@ CALLS = [
     (as_letter, (2, (1, 2))), (slope, (3, -2)), (needed, (2, [(1, 2)])), (parted, (3, [(1, 2, 1, 3)])),
     (level, (2, [(1, 2)])), (form, (2, [(1, 2)])), (alike, (2, [(1, 2)], [(2,)])),
     (alike, (2, [(1, 1), (2,)], [(2,), (1,)])),
+    (laid, (COMMUTATOR, WHOLE)), (part, (COMMUTATOR, WHOLE)), (lies_over, (COMMUTATOR, WHOLE)),
+    (joined, (COMMUTATOR, 0, 1)), (pictures_of, (COMMUTATOR,)), (pictures, (2, [(1, 2, -1, -2)])),
+    (seen, (2, [(2,)], HOUSE, 0)), (joint, (COMMUTATOR, PAIR)), (share, (COMMUTATOR, 5)),
+    (mean, (2, [(1, 2, -1, -2)], 5)), (mean_square, (2, (1, 1), 5)), (mean_fraction, (2, [(1, 2, -1, -2)])),
+    (within, (COMMUTATOR, WHOLE)), (joinings, (COMMUTATOR, WHOLE)), (fewest, (COMMUTATOR,)),
+    (free_in, (COMMUTATOR, WHOLE)), (lengthened, ((2, 1, ()), PAIR)),
 ]
 KINDS = {is_number: bool, is_row: bool, is_house: bool, led: int, kept: list, total_kept: int, is_web: bool,
          read: int, makes: bool, rank: int, ways: list, free_list: list, is_over: bool, made_power: int,
          is_full: bool, full_webs: list, changed: list, freed: list, changes_between: list, are_changes: bool,
          is_renaming: bool, is_move: bool, moves: list, neighbours: dict, length_behind: int, pieces: list,
          cut_letters: list, loose_letters: list, groups: list, total: int, is_shortest: bool, is_chain: bool,
-         needed: int, level: list}
+         needed: int, level: list, lies_over: bool, pictures_of: list, pictures: list, mean_square: int,
+         within: list, joinings: list, fewest: dict, free_in: bool, lengthened: list}
 
 
 class InterfaceTest(unittest.TestCase):

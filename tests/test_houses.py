@@ -218,6 +218,18 @@ class TotalKeptTest(unittest.TestCase):
                     lot = rows[at:at + many]
                     self.assertEqual(total_kept(deeds, lot, places), naive_total(deeds, lot, places), lot)
 
+    def test_through_as_many_houses_as_there_may_be(self):
+        for deeds, places in ((1, 7), (2, 5), (3, 4), (4, 3)):
+            one, other = [row for row in some_rows(deeds, 20, 6, f"most {deeds}") if len(row) > 3][:2]
+            for lot in ([one], [one, other], [other[:2], one[:3], other]):
+                self.assertEqual(total_kept(deeds, lot, places), naive_total(deeds, lot, places), lot)
+
+    def test_long_rows_through_all_houses(self):
+        for deeds, places in ((1, 4), (2, 3), (3, 3), (4, 2)):
+            rows = some_rows(deeds, 8, 200, f"long {deeds}") + [(1,) * 200, (1, deeds) * 100]
+            for lot in [[row] for row in rows] + [rows[:2], rows[2:8]]:
+                self.assertEqual(total_kept(deeds, lot, places), naive_total(deeds, lot, places), lot)
+
     def test_no_rows(self):
         for deeds, most in MOST_OF_PLACES.items():
             for places in range(1, most + 1):
