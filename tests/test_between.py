@@ -82,6 +82,16 @@ class WrongValuesTest(unittest.TestCase):
             fewest(MUCH)
         self.assertEqual(caught.exception.most, 2000)
 
+    def test_just_2000_and_one_more(self):
+        just = web_of(4, [(4, 3, 3, -1, 3, 4, 3, 2, 3, 4)])
+        self.assertEqual(len(within(just, whole(4))), 2000)
+        self.assertEqual(len(fewest(just)), 2000)
+        self.assertIs(free_in(just, whole(4)), True)
+        over = web_of(4, [(-1, -1, 4, 3, 1, 4, 4, 2, 4), (3, -1, 4)])
+        for call in (lambda: within(over, whole(4)), lambda: fewest(over), lambda: free_in(over, whole(4))):
+            with self.assertRaises(TooMany):
+                call()
+
     def test_only_the_pictures_within_are_counted(self):
         self.assertEqual(within(MUCH, MUCH), [MUCH])
         self.assertEqual(joinings(MUCH, MUCH), [])

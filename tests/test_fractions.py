@@ -44,7 +44,8 @@ class WrongValuesTest(unittest.TestCase):
                               {"deeds": (BadDeeds, NOT_DEEDS), "rows": (BadRows, not_lists(2))})
 
     def test_too_many(self):
-        for rows in ([(1, 1, 2) * 60], [(1, 2, 3, 4, 1, 1, -2, 3, 3, 4, 4, 2), (1, 2)]):
+        self.assertEqual(mean_fraction(4, [(4, 3, 3, -1, 3, 4, 3, 2, 3, 4)]), ((1,), (1,), 10))
+        for rows in ([(1, 1, 2) * 60], [(-1, -1, 4, 3, 1, 4, 4, 2, 4), (3, -1, 4)]):
             with self.assertRaises(TooMany) as caught:
                 mean_fraction(4, rows)
             self.assertEqual(caught.exception.most, 2000)

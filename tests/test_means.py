@@ -185,6 +185,12 @@ class MeanTest(unittest.TestCase):
                                     ((1, 2), 3, 2), ((1, 2), 4, 3)):
             self.assertLess(abs(worth(mean(2, [row * many], 1000000)) - divisors), fractions.Fraction(1, 1000))
 
+    def test_just_2000_pictures(self):
+        rows = [(4, 3, 3, -1, 3, 4, 3, 2, 3, 4)]
+        self.assertEqual(worth(mean(4, rows, 2)), average(kept_counts(4, rows, 2)))
+        with self.assertRaises(TooMany):
+            mean(4, [(-1, -1, 4, 3, 1, 4, 4, 2, 4), (3, -1, 4)], 2)
+
     def test_too_many(self):
         for rows in ([(1, 1, 2) * 60], some_rows(4, 6, 40, "too many means")):
             with self.assertRaises(TooMany) as caught:

@@ -22,8 +22,8 @@ SEVEN = [(2, 1, ((0, 1, 0), (0, 2, 0))), (2, 2, ((0, 1, 0), (0, 2, 1), (1, 1, 1)
          COMMUTATOR]
 WHOLE = SEVEN[0]
 HOUSE = ((1, 2, 0), (0, 2, 1))
-# The rows have 1999 and 2001 pictures.
-UNDER = (4, [(1, 4, 3, 4, 4, 4), (2, 1, 3, 3, 3, 4)])
+# The rows have 2000 and 2001 pictures.
+JUST = (4, [(4, 3, 3, -1, 3, 4, 3, 2, 3, 4)])
 OVER = (4, [(-1, -1, 4, 3, 1, 4, 4, 2, 4), (3, -1, 4)])
 
 
@@ -251,10 +251,10 @@ class PicturesTest(unittest.TestCase):
             found = pictures(1, [(1,) * many])
             self.assertEqual(found, [web_of(1, [(1,) * size]) for size in divisors])
 
-    def test_nearly_2000(self):
-        deeds, rows = UNDER
+    def test_just_2000(self):
+        deeds, rows = JUST
         found = pictures(deeds, rows)
-        self.assertEqual(len(found), 1999)
+        self.assertEqual(len(found), 2000)
         self.assertEqual(found, sorted(set(found)))
         web = web_of(deeds, rows)
         self.assertEqual(pictures_of(web), found)
