@@ -1,35 +1,27 @@
 """What lies between two webs of which one is over the other: pictures within, joinings, and what is free."""
 
 from meankept.errors import NotFree
+from meankept.joining import all_came
 from meankept.letters import plain_letters, undone_letters
 from meankept.pictures import check_over
-from meankept.picturing import all_pictures, laid_places, part_given, pictures_within
-from meankept.walks import all_ways, rank_of, steps_of, tried_letters
+from meankept.picturing import graph_of, graph_within, laid_places, lots_of, part_given, pictures_within
+from meankept.walks import all_ways, numbered, rank_of, steps_of, tried_letters
 from meankept.webs import check_web
 
 
-def many_joinings(came):
-    """Return a dict from pictures to how many joinings they need, for a dict of how they came."""
-    found = {}
-    for picture, step in came.items():
-        found[picture] = 0 if step is None else found[step[0]] + 1
-    return found
-
-
-def pairs_to(came, inner, picture):
-    """Return the list of the pairs of places of inner by which a picture comes of it."""
+def pairs_to(graph, goal):
+    """Return as few pairs of places as can be, by which goal, some lots of a graph, comes of the first lots."""
+    came = all_came(graph)
     pairs = []
-    while came[picture] is not None:
-        elder, pair = came[picture]
-        places = laid_places(inner, elder)
-        pairs.append(tuple(sorted([places.index(place) for place in pair])))
-        picture = elder
+    while came[goal] is not None:
+        goal, pair = came[goal]
+        pairs.append(pair)
     return list(reversed(pairs))
 
 
-def joining_pairs(inner, outer, given):
-    """Return as few pairs of places of inner as can be, by which its part of outer comes of it."""
-    return pairs_to(pictures_within(inner, given), inner, part_given(inner, outer, given))
+def joining_pairs(inner, given):
+    """Return as few pairs of places of inner as can be, by which the part that its places are given comes of it."""
+    return pairs_to(graph_within(inner, given), lots_of(given))
 
 
 def is_free_by(pairs, inner, middle):
@@ -69,31 +61,35 @@ def rows_around(middle, outer):
 
 def within(inner, outer):
     """Return the ascending list of the pictures of inner over which outer is."""
-    return sorted(pictures_within(inner, check_over(inner, outer)))
+    return pictures_within(inner, check_over(inner, outer))
 
 
 def joinings(inner, outer):
     """Return as few pairs of places of inner as can be, by which its part of outer comes of it."""
-    return joining_pairs(inner, outer, check_over(inner, outer))
+    return joining_pairs(inner, check_over(inner, outer))
 
 
 def fewest(web):
     """Return the dict from the pictures of web to the least number of joinings by which they come of it."""
     check_web(web)
-    many = many_joinings(all_pictures(web))
-    return {picture: many[picture] for picture in sorted(many)}
+    graph = graph_of(web)
+    many = {}
+    for lots, came in all_came(graph).items():
+        many[lots] = 0 if came is None else many[came[0]] + 1
+    found = {numbered(web[0], steps, 0): many[lots] for lots, (steps, _) in graph.items()}
+    return {picture: found[picture] for picture in sorted(found)}
 
 
 def free_in(inner, outer):
     """Return whether inner is free in outer."""
     given = check_over(inner, outer)
-    return is_free_by(joining_pairs(inner, outer, given), inner, part_given(inner, outer, given))
+    return is_free_by(joining_pairs(inner, given), inner, part_given(inner, outer, given))
 
 
 def lengthened(inner, outer):
     """Return plain rows that behind the free list of inner make a free list of outer."""
     given = check_over(inner, outer)
-    pairs = joining_pairs(inner, outer, given)
+    pairs = joining_pairs(inner, given)
     middle = part_given(inner, outer, given)
     if not is_free_by(pairs, inner, middle):
         raise NotFree("inner must be free in outer")

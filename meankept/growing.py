@@ -12,12 +12,12 @@ def grown(steps, letter, place, goal):
     return found
 
 
-def kept_steps(begun, row, start, most):
-    """Return all steps, of at most so many places, that come of those begun by letting row keep a place.
+def kept_steps(begun, row, most):
+    """Return all steps, of at most so many places, that come of those begun by letting row keep the place 0.
 
     Each new place is the next number; so no two of them are alike if no two of those begun are.
     """
-    waiting = [(steps, 0, start) for steps in begun]
+    waiting = [(steps, 0, 0) for steps in begun]
     found = []
     while waiting:
         steps, at, place = waiting.pop()
@@ -25,17 +25,12 @@ def kept_steps(begun, row, start, most):
             place = steps[place][row[at]]
             at += 1
         if at == len(row):
-            if place == start:
+            if place == 0:
                 found.append(steps)
             continue
         # The last letter has to lead to the beginning.
-        goals = list(range(min(len(steps) + 1, most))) if at + 1 < len(row) else [start]
+        goals = list(range(min(len(steps) + 1, most))) if at + 1 < len(row) else [0]
         for goal in goals:
             if goal == len(steps) or -row[at] not in steps[goal]:
                 waiting.append((grown(steps, row[at], place, goal), at, place))
     return found
-
-
-def ties_told(deeds, steps):
-    """Return a tuple that tells for each deed from how many places it leads."""
-    return tuple([sum([deed in leads for leads in steps]) for deed in range(1, deeds + 1)])

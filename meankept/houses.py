@@ -5,9 +5,9 @@ from math import factorial, perm
 
 from meankept.errors import BadHouse, TooMany
 from meankept.filling import filled_house
-from meankept.growing import kept_steps, ties_told
+from meankept.growing import kept_steps
 from meankept.kinds import check_deeds, check_place, check_places, is_whole_from, taken_row, taken_rows
-from meankept.walks import add_step, house_steps, walked
+from meankept.walks import add_step, house_steps, ties_told, walked
 
 MOST_PLACES = 60
 MOST_HOUSES = 20000
@@ -124,7 +124,7 @@ def total_kept(deeds, rows, places):
         raise TooMany(MOST_HOUSES)
     begun = [[{}]]
     for row in plain_rows:
-        begun = kept_steps(begun, row, 0, places)
+        begun = kept_steps(begun, row, places)
     # Two places exchanged in all houses give all houses again: each place is kept as often as the place 0.
     return places * sum([many_houses_with(deeds, steps, places) for steps in begun])
 

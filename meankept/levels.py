@@ -8,24 +8,40 @@ from meankept.shortest import move_growths, rings_shortened, taken_few_rings
 MOST_LISTS = 500
 
 
-def simple_exchanges(deeds):
-    """Return a list of exchanges such that each other one does what some of these do, one behind the other."""
-    found = []
+def exchange_rounds(deeds):
+    """Return a list of lists of exchanges: each exchange does what at most one of each list does, list by list."""
+    rounds = []
     for at in range(deeds):
         images = list(same_images(deeds))
         images[at] = (-at - 1,)
-        found.append(tuple(images))
-        if at > 0:
-            images[at] = (at,)
-            images[at - 1] = (at + 1,)
-            found.append(tuple(images))
-    return found
+        rounds.append([tuple(images)])
+    for at in range(1, deeds):
+        swaps = []
+        for elder in range(at):
+            images = list(same_images(deeds))
+            images[at] = (elder + 1,)
+            images[elder] = (at + 1,)
+            swaps.append(tuple(images))
+        rounds.append(swaps)
+    return rounds
 
 
-def level_steps(deeds, rings):
-    """Return the list of renamings by which the level is gone through, from one of its lists of rings on."""
-    found = [move_images(deeds, move) for growth, move in move_growths(deeds, rings) if growth == 0]
-    return found + simple_exchanges(deeds)
+def add_step(came, rings, step):
+    """Add a list of rings to the dict came of a level, if it is new, with the step to it; raise TooMany if needed."""
+    if rings not in came:
+        came[rings] = step
+        if len(came) > MOST_LISTS:
+            raise TooMany(MOST_LISTS)
+
+
+def add_exchanged(came, rings, step, rounds):
+    """Add a new list of rings to the dict came of a level, with the step to it, and all that exchanges make of it."""
+    elder = len(came)
+    add_step(came, rings, step)
+    for swaps in rounds:
+        for other in list(came)[elder:]:
+            for images in swaps:
+                add_step(came, renamed_rings(images, other), (other, images))
 
 
 def level_from(deeds, first):
@@ -33,17 +49,21 @@ def level_from(deeds, first):
 
     A step is a pair of the list of rings from which it leads and a renaming; the first list has None.
     """
-    came = {first: None}
+    rounds = exchange_rounds(deeds)
+    came = {}
+    add_exchanged(came, first, None, rounds)
+    # What moves make of exchanged rings, exchanges make of what moves make of the rings themselves; so of all
+    # that exchanges make of one another the moves of one are enough.
     waiting = [first]
     at = 0
     while at < len(waiting):
-        for images in level_steps(deeds, waiting[at]):
-            rings = renamed_rings(images, waiting[at])
-            if rings not in came:
-                came[rings] = (waiting[at], images)
-                waiting.append(rings)
-                if len(waiting) > MOST_LISTS:
-                    raise TooMany(MOST_LISTS)
+        for growth, move in move_growths(deeds, waiting[at]):
+            if growth == 0:
+                images = move_images(deeds, move)
+                rings = renamed_rings(images, waiting[at])
+                if rings not in came:
+                    add_exchanged(came, rings, (waiting[at], images), rounds)
+                    waiting.append(rings)
         at += 1
     return came
 
@@ -84,9 +104,8 @@ def alike(deeds, one, other):
     chain, first = rings_shortened(deeds, rings)
     goal_chain, last = rings_shortened(deeds, goal)
     came = level_from(deeds, first)
-    goal_level = level_from(deeds, last)
     if last not in came:
-        return ("unlike", min(list(came)), min(list(goal_level)))
+        return ("unlike", min(list(came)), min(list(level_from(deeds, last))))
     way_back = [undone_move(move) for move in reversed(goal_chain)]
     images = images_behind(chain_images(deeds, chain), images_to(deeds, came, last))
     return ("alike", images_behind(images, chain_images(deeds, way_back)))

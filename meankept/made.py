@@ -7,7 +7,7 @@ from meankept.houses import MOST_PLACES
 from meankept.kinds import check_deeds, taken_row, taken_rows
 from meankept.letters import plain_letters, undone_letters
 from meankept.lists import freeing_changes
-from meankept.walks import add_step, rank_of, spelling_of, steps_of
+from meankept.walks import rank_of, spelling_of, steps_of, walked_on
 
 
 def numbers_ahead(change):
@@ -46,10 +46,7 @@ def parting_house(web, letters):
         at += 1
     if places + len(letters) - at > MOST_PLACES:
         raise TooMany(MOST_PLACES)
-    for letter in letters[at:]:
-        steps.append({})
-        add_step(steps, place, letter, len(steps) - 1)
-        place = len(steps) - 1
+    walked_on(steps, letters[at:], place)
     return filled_house(deeds, steps)
 
 

@@ -48,13 +48,13 @@ def joined(web, place, mate):
 def pictures_of(web):
     """Return the ascending list of the pictures of web."""
     check_web(web)
-    return sorted(all_pictures(web))
+    return all_pictures(web)
 
 
 def pictures(deeds, rows):
     """Return the ascending list of the pictures of rows."""
     check_deeds(deeds)
-    return sorted(all_pictures(web_of_plain(deeds, taken_rows(deeds, rows))))
+    return all_pictures(web_of_plain(deeds, taken_rows(deeds, rows)))
 
 
 def seen(deeds, rows, house, place):

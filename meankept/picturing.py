@@ -1,7 +1,7 @@
 """Work on webs that are checked already: laying them into one another, joining their places, their pictures."""
 
-from meankept.errors import TooMany
 from meankept.folding import folded_steps
+from meankept.joining import all_joined, joining_graph
 from meankept.walks import add_step, meetings, numbered, steps_of
 
 MOST_PICTURES = 2000
@@ -56,63 +56,34 @@ def joint_web(one, other):
     return web_of_ties(deeds, places + more, ties)
 
 
-def meet_pairs(steps, pair, met):
-    """Put into the dict met all pairs of places to which the places of a pair lead by the same letters."""
-    met[pair] = True
-    waiting = [pair]
-    while waiting:
-        place, mate = waiting.pop()
-        for letter, goal in steps[place].items():
-            if letter in steps[mate]:
-                other = steps[mate][letter]
-                found = (min(goal, other), max(goal, other))
-                if found not in met:
-                    met[found] = True
-                    waiting.append(found)
-
-
-def add_pictures(came, web, given):
-    """Add to the dict came the new webs that come of web by joining two places that are given one place.
-
-    A new web has the pair (web, pair of places) there.
-    """
-    steps = steps_of(web)
-    met = {}
-    for mate in range(web[1]):
-        for place in range(mate):
-            # Joining a pair joins all pairs to which it leads; so one of them is enough.
-            if given[place] == given[mate] and (place, mate) not in met:
-                meet_pairs(steps, (place, mate), met)
-                picture = joined_web(web, place, mate)
-                if picture not in came:
-                    came[picture] = (web, (place, mate))
-                if len(came) > MOST_PICTURES:
-                    raise TooMany(MOST_PICTURES)
+def steps_within(web, given):
+    """Return the list of the steps of the pictures of web that join only places that are given one place."""
+    return all_joined(steps_of(web), given, MOST_PICTURES)
 
 
 def pictures_within(web, given):
-    """Return a dict from the pictures of web that join only places that are given one place to how they came.
-
-    This is None for the web itself, otherwise the pair of a picture that comes by one joining less, and of
-    its two places that are joined. The pictures stand in the order of how many joinings they need.
-    """
-    came = {web: None}
-    waiting = [(web, given)]
-    at = 0
-    while at < len(waiting):
-        elder, its = waiting[at]
-        many = len(came)
-        add_pictures(came, elder, its)
-        for picture in list(came)[many:]:
-            places = laid_places(elder, picture)
-            mine = [0] * picture[1]
-            for place, other in zip(places, its):
-                mine[place] = other
-            waiting.append((picture, mine))
-        at += 1
-    return came
+    """Return the ascending list of the pictures of web that join only places that are given one place."""
+    return sorted([numbered(web[0], steps, 0) for steps in steps_within(web, given)])
 
 
 def all_pictures(web):
-    """Return a dict from all pictures of web to how they came, as within it."""
+    """Return the ascending list of all pictures of web."""
     return pictures_within(web, [0] * web[1])
+
+
+def graph_within(web, given):
+    """Return the graph of the joinings of places of web that are given one place."""
+    return joining_graph(steps_of(web), given, MOST_PICTURES)
+
+
+def graph_of(web):
+    """Return the graph of all joinings of places of web."""
+    return graph_within(web, [0] * web[1])
+
+
+def lots_of(given):
+    """Return the lots of the joinings of all places that are given one place."""
+    numbers = {}
+    for place in given:
+        numbers.setdefault(place, len(numbers))
+    return tuple([numbers[place] for place in given])

@@ -6,28 +6,41 @@ summed up as a dict from forms to how often they come.
 
 from math import perm
 
+from meankept.folding import web_of_plain
+from meankept.joining import all_joined
+from meankept.neighbours import rings_of_plain
 from meankept.numbers import number
-from meankept.picturing import all_pictures
+from meankept.picturing import steps_within
+from meankept.shortest import rings_shortened
+from meankept.walks import steps_of, ties_told
 
 
-def form_of(web):
-    """Return the form of a web."""
-    deeds, places, ties = web
-    told = [deed for _, deed, _ in ties]
-    return (places, tuple([told.count(deed) for deed in range(1, deeds + 1)]))
+def form_of(deeds, steps):
+    """Return the form of steps."""
+    return (len(steps), ties_told(deeds, steps))
 
 
-def counted(items):
-    """Return a dict from the items of a list to how often they stand in it."""
+def counted_forms(deeds, lot):
+    """Return the dict of the forms of a list of steps."""
     found = {}
-    for item in items:
-        found[item] = found.get(item, 0) + 1
+    for steps in lot:
+        form = form_of(deeds, steps)
+        found[form] = found.get(form, 0) + 1
     return found
 
 
 def picture_forms(web):
     """Return the dict of the forms of all pictures of a web."""
-    return counted([form_of(picture) for picture in all_pictures(web)])
+    return counted_forms(web[0], steps_within(web, [0] * web[1]))
+
+
+def pair_forms(deeds, one, other):
+    """Return the dict of the forms of all manners in which two plain rows each keep a place."""
+    steps = steps_of(web_of_plain(deeds, [one]))
+    more = len(steps)
+    for leads in steps_of(web_of_plain(deeds, [other])):
+        steps.append({letter: goal + more for letter, goal in leads.items()})
+    return counted_forms(deeds, all_joined(steps, [0] * len(steps), None))
 
 
 def mean_of_forms(forms, places):
@@ -48,3 +61,10 @@ def mean_of_forms(forms, places):
     for bound in most:
         bottom *= perm(places, bound)
     return number(top, bottom)
+
+
+def mean_of_pair(deeds, one, other, places):
+    """Return the mean of the product of how many places two plain rows keep in houses of so many places."""
+    # A renaming of both, and turning either of them, leaves it: with few letters there are few forms.
+    _, rings = rings_shortened(deeds, rings_of_plain([one, other]))
+    return mean_of_forms(pair_forms(deeds, rings[0], rings[1]), places)

@@ -45,6 +45,28 @@ def walked(steps, letters, place):
     return place
 
 
+def walked_on(steps, letters, place):
+    """Return the place to which letters lead from place, with new places and steps where they cannot be read."""
+    for letter in letters:
+        if letter not in steps[place]:
+            steps.append({})
+            add_step(steps, place, letter, len(steps) - 1)
+        place = steps[place][letter]
+    return place
+
+
+def take_off_ends(steps, first):
+    """Take off places of steps, but first, with one end of a tie, again and again."""
+    waiting = [place for place, leads in enumerate(steps) if len(leads) == 1]
+    while waiting:
+        place = waiting.pop()
+        if place != first and len(steps[place]) == 1:
+            for letter, goal in list(steps[place].items()):
+                steps[place] = {}
+                del steps[goal][-letter]
+                waiting.append(goal)
+
+
 def numbered(deeds, steps, first):
     """Return the web of the places that can be reached from the place first, numbered from it on."""
     numbers = {first: 0}
@@ -66,6 +88,21 @@ def rank_of(web):
     """Return the rank of a web."""
     _, places, ties = web
     return len(ties) - places + 1
+
+
+def rank_of_steps(steps):
+    """Return the rank of the web of steps that hang together."""
+    return sum([len(leads) for leads in steps]) // 2 - len(steps) + 1
+
+
+def ties_told(deeds, steps):
+    """Return a tuple that tells for each deed from how many places it leads."""
+    return tuple([sum([deed in leads for leads in steps]) for deed in range(1, deeds + 1)])
+
+
+def whole_web(deeds):
+    """Return the web that makes all rows: one place and a tie of each deed."""
+    return (deeds, 1, tuple([(0, deed, 0) for deed in range(1, deeds + 1)]))
 
 
 def meetings(deeds, steps):

@@ -1,11 +1,12 @@
 """What several tests share: wrong values, many rows, and plain ways to work things out afresh."""
 
 import fractions
+import functools
 import itertools
 import random
 
 from meankept.errors import BadRow
-from meankept.webs import web_of
+from meankept.webs import free_list, is_over, rank, web_of, ways
 
 
 def nested(depth):
@@ -24,6 +25,7 @@ def any_values():
 
 NOT_DEEDS = any_values() + [0, 5, -1, -4, 10 ** 29, (), (2,)]
 NOT_WHOLES = any_values() + [(), (1,), (1, 2)]
+NOT_PLACES = NOT_WHOLES + [0, -1, 1000001, 10 ** 29, -10 ** 29]
 
 
 def not_rows(deeds):
@@ -465,3 +467,207 @@ def kept_counts(deeds, rows, places):
 def worth(value):
     """Return what a number is worth."""
     return fractions.Fraction(value) if isinstance(value, int) else fractions.Fraction(*value)
+
+
+def whole(deeds):
+    """Return the web with one place and a tie of each deed."""
+    return (deeds, 1, tuple((0, deed, 0) for deed in range(1, deeds + 1)))
+
+
+def over_one_another(many, most, seed):
+    """Return pairs of webs of which the second one is over the first one, of at most so many places."""
+    found = []
+    source = random.Random(seed)
+    for deeds, rows in some_lists(many, 4, seed):
+        outer = web_of(deeds, rows)
+        free = free_list(outer)
+        inner = outer
+        if free:
+            spelled = [tuple(source.choice([-1, 1]) * source.randint(1, len(free))
+                             for _ in range(source.randint(0, 4))) for _ in range(source.randint(0, len(free)))]
+            inner = web_of(deeds, [tell(free, spelling) for spelling in spelled][:6])
+        for web in (outer, whole(deeds), web_of(deeds, rows[:-1])):
+            if inner[1] <= most and is_over(web, inner):
+                found.append((inner, web))
+            if outer[1] <= most and is_over(web, outer):
+                found.append((outer, web))
+    return found
+
+
+def is_reached(inner, goal, many):
+    """Return whether so many pairs of places of inner, or fewer, join it to goal."""
+    pairs = list(itertools.combinations(range(inner[1]), 2))
+    return any(join_naively(inner, some)[0] == goal
+               for k in range(many + 1) for some in itertools.combinations(pairs, k))
+
+
+def part_by_ties(inner, outer, given):
+    """Return the web of the ties of outer that the ties of inner are given."""
+    now = ["first"] + list(range(1, outer[1]))
+    return number_naively(outer[0], {(now[given[p]], x, now[given[q]]) for p, x, q in inner[2]})
+
+
+@functools.lru_cache(maxsize=None)
+def is_free_naively(inner, outer):
+    """Return whether inner is free in outer, which is over it, by trying all joinings of so many pairs."""
+    goal = part_by_ties(inner, outer, [follow(outer, way) for way in ways(inner)])
+    return is_reached(inner, goal, rank(goal) - rank(inner))
+
+
+def without_ends(ties, first):
+    """Return a lot of ties without those at places, but first, that have one end, again and again."""
+    ties = set(ties)
+    while True:
+        ends = [end for start, _, goal in ties for end in (start, goal)]
+        left = {(start, deed, goal) for start, deed, goal in ties
+                if all(end == first or ends.count(end) > 1 for end in (start, goal))}
+        if left == ties:
+            return ties
+        ties = left
+
+
+def hanging(ties, first):
+    """Return the ties that hang together with the place first."""
+    met, left = {first}, set(ties)
+    while True:
+        more = {tie for tie in left if tie[0] in met or tie[2] in met}
+        if not more:
+            return {tie for tie in ties if tie[0] in met}
+        met |= {end for start, _, goal in more for end in (start, goal)}
+        left -= more
+
+
+def web_by_ties(deeds, ties, first):
+    """Return the web of the rows that are read along ties, of any places, from the place first to it."""
+    left = without_ends(hanging(ties, first), first)
+    return number_naively(deeds, {("first" if start == first else start, deed, "first" if goal == first else goal)
+                                  for start, deed, goal in left})
+
+
+def pair_ties(one, other):
+    """Return the ties of all pairs of places of two webs."""
+    return {((p, r), x, (q, s)) for p, x, q in one[2] for r, y, s in other[2] if x == y}
+
+
+def turn_naively(web, row):
+    """Return the web of all rows that web makes, turned by row."""
+    ties = set(web[2])
+    place = 0
+    for at, letter in enumerate(back(afresh(row))):
+        goals = [goal for start, deed, goal in ties if (start, deed) == (place, letter)]
+        goals += [start for start, deed, goal in ties if (goal, deed) == (place, -letter)]
+        goal = goals[0] if goals else f"new {at}"
+        ties.add((place, letter, goal) if letter > 0 else (goal, -letter, place))
+        place = goal
+    return web_by_ties(web[0], ties, place)
+
+
+def not_names():
+    """Return values that are no names of kept rows."""
+    return [value for value in any_values() if value != "a"] + [
+        0, 1, (), ("x",), ["x"], "", "a" * 13, "abcdefghijklm", "A", "aB", "a1", "a b", " a", "a ", "a-b", "a_b",
+        "\u00e4", "x\u00e9", "a\n", "\u0430", "a.", "z{", "`a", "1"]
+
+
+def drawn_act(source, deeds, names):
+    """Return a drawn act of a live house, often one that does not fit."""
+    word = source.choice(["keep", "keep", "keep", "drop", "turn", "turn", "rename", "move", "move"])
+    name = source.choice(names)
+    row = tuple(source.choice(letters(deeds)) for _ in range(source.choice([0, 1, 2, 3, 5, 9])))
+    if source.random() < 0.04:
+        row = tuple(source.choice(letters(deeds)) for _ in range(source.randint(90, 200)))
+    if source.random() < 0.06:
+        name, row = source.choice([("", row), ("A", row), (None, row), (name, (0,)), (name, [1]), (name, None)])
+    if word in ("keep", "turn"):
+        return (word, name, row)
+    if word == "drop":
+        return (word, name)
+    if word == "rename":
+        images = drawn_renaming(source, deeds, 12)
+        return (word, source.choice([images, images, images, images + ((1,),), ((1, 1),) * deeds, None]))
+    lot = naive_moves(deeds) + [(1, ()), (0, (1,)), None]
+    return (word, source.choice(lot))
+
+
+class Model:
+    """What a live house of rows does, worked out afresh from all its acts each time it is asked."""
+
+    def __init__(self, deeds):
+        self.deeds = deeds
+        self.acts = []
+        self.taken_back = []
+
+    def behind(self, acts):
+        """Return the dict of the rows and the renaming so far behind acts."""
+        rows, images = {}, same(self.deeds)
+        for act in acts:
+            if act[0] == "keep":
+                rows[act[1]] = act[2]
+            elif act[0] == "drop":
+                del rows[act[1]]
+            elif act[0] == "turn":
+                rows[act[1]] = turned(rows[act[1]], act[2])
+            else:
+                its = act[1] if act[0] == "rename" else move_of(self.deeds, act[1])
+                rows = {name: tell(its, row) for name, row in rows.items()}
+                images = in_turn(images, its)
+        return rows, images
+
+    def state(self):
+        """Return the dict of the kept rows and the renaming so far."""
+        return self.behind(self.acts)
+
+    def is_name(self, name):
+        """Return whether a value is a name."""
+        return isinstance(name, str) and 1 <= len(name) <= 12 and all("a" <= letter <= "z" for letter in name)
+
+    def is_row(self, row):
+        """Return whether a value is a row."""
+        return isinstance(row, tuple) and len(row) <= 200 and all(
+            type(letter) is int and 1 <= abs(letter) <= self.deeds for letter in row)
+
+    def error_of(self, act):
+        """Return the name of the error that an act raises, and the most that it tells; None if it raises none."""
+        rows, images = self.state()
+        if act[0] in ("keep", "drop", "turn"):
+            if not self.is_name(act[1]):
+                return ("BadName", None)
+            if act[0] != "keep" and act[1] not in rows:
+                return ("NoName", None)
+            if act[0] != "drop" and not self.is_row(act[2]):
+                return ("BadRow", None)
+            if act[0] == "keep" and act[1] not in rows and len(rows) >= 20:
+                return ("TooMany", 20)
+            if act[0] == "turn" and len(turned(rows[act[1]], act[2])) > 200:
+                return ("TooMany", 200)
+            return None
+        if act[0] == "move" and act[1] not in naive_moves(self.deeds):
+            return ("BadMove", None)
+        its = act[1] if act[0] == "rename" else move_of(self.deeds, act[1])
+        if its is None or len(its) != self.deeds or web_of(self.deeds, its) != whole(self.deeds):
+            return ("BadRenaming", None)
+        if size(in_turn(images, its)) > 2000:
+            return ("TooMany", 2000)
+        if any(len(tell(its, row)) > 200 for row in rows.values()):
+            return ("TooMany", 200)
+        return None
+
+    def do(self, act):
+        """Do an act that raises no error."""
+        row = (afresh(act[2]),) if len(act) > 2 else ()
+        self.acts.append(act[:2] + row)
+        self.taken_back = []
+
+    def undo(self):
+        """Take the newest act back; return whether there was one."""
+        if self.acts:
+            self.taken_back.append(self.acts.pop())
+            return True
+        return False
+
+    def redo(self):
+        """Do again what was taken back last; return whether there was any."""
+        if self.taken_back:
+            self.acts.append(self.taken_back.pop())
+            return True
+        return False

@@ -10,46 +10,14 @@ from meankept.pictures import joined, laid, lies_over, part, pictures, pictures_
 from meankept.renamings import is_renaming
 from meankept.shortest import as_letter
 from meankept.webs import free_list, is_over, makes, rank, web_of
-from tests.helpers import (check_first_wrong, drawn_renaming, is_plain, join_naively, not_webs, plain_rows, some_lists,
-                           some_webs, tell)
+from tests.helpers import (check_first_wrong, drawn_renaming, is_plain, is_reached, join_naively, not_webs,
+                           over_one_another, plain_rows, some_webs, tell, whole)
 
 COMMUTATOR = (2, 4, ((0, 1, 1), (0, 2, 2), (1, 2, 3), (2, 1, 3)))
 WHOLE = (2, 1, ((0, 1, 0), (0, 2, 0)))
 BETWEEN = (within, joinings, free_in, lengthened)
 # A web with more than 2000 pictures.
 MUCH = web_of(2, [(1, 1, 2) * 10])
-
-
-def whole(deeds):
-    """Return the web with one place and a tie of each deed."""
-    return (deeds, 1, tuple((0, deed, 0) for deed in range(1, deeds + 1)))
-
-
-def over_one_another(many, most, seed):
-    """Return pairs of webs of which the second one is over the first one, of at most so many places."""
-    found = []
-    source = random.Random(seed)
-    for deeds, rows in some_lists(many, 4, seed):
-        outer = web_of(deeds, rows)
-        free = free_list(outer)
-        inner = outer
-        if free:
-            spelled = [tuple(source.choice([-1, 1]) * source.randint(1, len(free))
-                             for _ in range(source.randint(0, 4))) for _ in range(source.randint(0, len(free)))]
-            inner = web_of(deeds, [tell(free, spelling) for spelling in spelled][:6])
-        for web in (outer, whole(deeds), web_of(deeds, rows[:-1])):
-            if inner[1] <= most and is_over(web, inner):
-                found.append((inner, web))
-            if outer[1] <= most and is_over(web, outer):
-                found.append((outer, web))
-    return found
-
-
-def is_reached(inner, goal, many):
-    """Return whether so many pairs of places of inner, or fewer, join it to goal."""
-    pairs = list(itertools.combinations(range(inner[1]), 2))
-    return any(join_naively(inner, some)[0] == goal
-               for k in range(many + 1) for some in itertools.combinations(pairs, k))
 
 
 class WrongValuesTest(unittest.TestCase):

@@ -10,10 +10,14 @@ import unittest
 
 import meankept
 from meankept.between import fewest, free_in, joinings, lengthened, within
+from meankept.common import across, common, common_pieces, piece, piece_of
+from meankept.depths import depth, keeps_alone, leading, least_unlike
 from meankept.errors import BadDeeds, BadNumber, BadRow, KeepError
 from meankept.fractions import mean_fraction
 from meankept.full import filled, full_webs, house_web, is_full, rest
 from meankept.houses import is_house, kept, least_house, led, total_kept
+from meankept.hulls import bound_webs, hull, inside, is_bound, outside
+from meankept.journals import packed, replayed
 from meankept.levels import alike, form, level
 from meankept.lists import are_changes, changed, changes_between, freed
 from meankept.made import made_of, nothing_of
@@ -26,10 +30,14 @@ from meankept.pictures import joined, joint, laid, lies_over, part, pictures, pi
 from meankept.renamings import back_renaming, behind, is_renaming, renamed, turned_by
 from meankept.rings import meet_power, ring_of, root, turner
 from meankept.rows import beside, is_row, plain, sums, times_row, undone
+from meankept.shares import mean_product, own_share
 from meankept.shortest import (as_letter, done, is_chain, is_shortest, needed, parted, rings_of, shortened, slope,
                                total)
+from meankept.texts import read_renaming, read_row, renaming_text, row_text
+from meankept.turned import stays_turned, turners, turning_row, web_turned
 from meankept.webs import (free_list, is_over, is_web, made_power, makes, rank, read, spelled, told_row, ways,
                            web_of)
+from meankept.widest import near_turned, step_rows, steps_over, widest
 from tests.helpers import any_values, nested
 
 FOLDER = os.path.dirname(meankept.__file__)
@@ -68,6 +76,25 @@ INTERFACE = {
     "fractions": ["mean_fraction(deeds, rows)"],
     "between": ["within(inner, outer)", "joinings(inner, outer)", "fewest(web)", "free_in(inner, outer)",
                 "lengthened(inner, outer)"],
+    "hulls": ["is_bound(inner, outer)", "hull(inner, outer)", "bound_webs(web)", "inside(inner, outer)",
+              "outside(web, outer)"],
+    "shares": ["own_share(web, places)", "mean_product(deeds, one, other, places)"],
+    "depths": ["depth(deeds, row)", "leading(deeds, row)", "least_unlike(deeds, row)", "keeps_alone(deeds, rows)"],
+    "common": ["piece(one, other, place, mate)", "common(one, other)", "common_pieces(one, other)",
+               "across(one, other, row, goal)", "piece_of(one, other, row)"],
+    "turned": ["web_turned(web, row)", "turning_row(one, other)", "turners(web)", "stays_turned(web)"],
+    "widest": ["steps_over(outer, inner)", "step_rows(outer, inner)", "widest(web)", "near_turned(web, row)"],
+    "texts": ["row_text(deeds, row)", "read_row(deeds, text)", "renaming_text(deeds, renaming)",
+              "read_renaming(deeds, text)"],
+    "journals": ["replayed(deeds, acts)", "packed(deeds, acts)"],
+}
+CLASSES = {
+    "live": {"LiveRows(deeds)": [
+        "keep(self, name, row)", "drop(self, name)", "turn(self, name, by)", "rename(self, renaming)",
+        "move(self, thing)", "undo(self)", "redo(self)", "journal(self)", "names(self)", "row(self, name)",
+        "renaming(self)", "origin(self, name)", "kept_total(self, some, places)", "kept_mean(self, some, places)",
+        "web_rank(self, some)", "can_make(self, some, name)", "same_ring(self, one, other)", "is_letter(self, name)"]},
+    "desk": {"Desk()": ["say(self, line)"]},
 }
 
 HOUSE = ((1, 2, 0), (0, 2, 1))
@@ -108,6 +135,15 @@ CALLS = [
     (mean, (2, [(1, 2, -1, -2)], 5)), (mean_square, (2, (1, 1), 5)), (mean_fraction, (2, [(1, 2, -1, -2)])),
     (within, (COMMUTATOR, WHOLE)), (joinings, (COMMUTATOR, WHOLE)), (fewest, (COMMUTATOR,)),
     (free_in, (COMMUTATOR, WHOLE)), (lengthened, ((2, 1, ()), PAIR)),
+    (is_bound, (COMMUTATOR, WHOLE)), (hull, (COMMUTATOR, WHOLE)), (bound_webs, (COMMUTATOR,)),
+    (inside, (COMMUTATOR, WHOLE)), (outside, (COMMUTATOR, WHOLE)), (own_share, (COMMUTATOR, 5)),
+    (mean_product, (2, (1, 1), (1, 2, -1), 5)), (depth, (2, (1, 2, -1, -2))), (leading, (2, (1, 2, -1, -2))),
+    (least_unlike, (2, (1, 2, -1, -2))), (keeps_alone, (2, [(1, 2)])), (piece, (COMMUTATOR, PAIR, 3, 1)),
+    (common, (COMMUTATOR, PAIR)), (common_pieces, (COMMUTATOR, PAIR)), (across, (WHOLE, PAIR, (1,), (2, 2))),
+    (piece_of, (PAIR, COMMUTATOR, (1, 1))), (web_turned, (COMMUTATOR, (1, 1))), (turning_row, (COMMUTATOR, COMMUTATOR)),
+    (turners, (PAIR,)), (stays_turned, (PAIR,)), (steps_over, (WHOLE, PAIR)), (step_rows, (WHOLE, PAIR)),
+    (widest, (PAIR,)), (near_turned, (PAIR, (1, 2))), (row_text, (2, (1, -2))), (read_row, (2, "aBbb")),
+    (renaming_text, (2, NIELSEN)), (read_renaming, (2, "a=aB b=b")), (packed, (2, [("keep", "a", (1, 2))])),
 ]
 KINDS = {is_number: bool, is_row: bool, is_house: bool, led: int, kept: list, total_kept: int, is_web: bool,
          read: int, makes: bool, rank: int, ways: list, free_list: list, is_over: bool, made_power: int,
@@ -115,7 +151,9 @@ KINDS = {is_number: bool, is_row: bool, is_house: bool, led: int, kept: list, to
          is_renaming: bool, is_move: bool, moves: list, neighbours: dict, length_behind: int, pieces: list,
          cut_letters: list, loose_letters: list, groups: list, total: int, is_shortest: bool, is_chain: bool,
          needed: int, level: list, lies_over: bool, pictures_of: list, pictures: list, mean_square: int,
-         within: list, joinings: list, fewest: dict, free_in: bool, lengthened: list}
+         within: list, joinings: list, fewest: dict, free_in: bool, lengthened: list, is_bound: bool,
+         bound_webs: list, keeps_alone: bool, common_pieces: list, stays_turned: bool, steps_over: int,
+         step_rows: list, near_turned: bool, mean_product: int, row_text: str, renaming_text: str, packed: list}
 
 
 class InterfaceTest(unittest.TestCase):
@@ -134,6 +172,22 @@ class InterfaceTest(unittest.TestCase):
             defined = [node.name for node in tree.body if isinstance(node, ast.FunctionDef)]
             for line in told:
                 self.assertIn(line.split("(")[0], defined)
+
+    def test_classes(self):
+        for name, classes in CLASSES.items():
+            module = importlib.import_module("meankept." + name)
+            with open(os.path.join(FOLDER, name + ".py"), encoding="utf-8") as file:
+                tree = ast.parse(file.read())
+            for line, methods in classes.items():
+                word = line.split("(")[0]
+                found = getattr(module, word)
+                self.assertEqual(word + str(inspect.signature(found)), line)
+                (node,) = [node for node in tree.body if isinstance(node, ast.ClassDef) and node.name == word]
+                defined = [item.name for item in node.body if isinstance(item, ast.FunctionDef)]
+                for method in methods:
+                    own = vars(found)[method.split("(")[0]]
+                    self.assertEqual(own.__name__ + str(inspect.signature(own)), method)
+                    self.assertIn(own.__name__, defined)
 
     def test_the_package_has_its_init(self):
         self.assertTrue(os.path.exists(os.path.join(FOLDER, "__init__.py")))
@@ -173,7 +227,12 @@ class CallsTest(unittest.TestCase):
 
     def test_all_calls_are_there(self):
         names = {line.split("(")[0] for told in INTERFACE.values() for line in told}
-        self.assertEqual({function.__name__ for function, _ in CALLS}, names)
+        # What replayed returns is a live house, equal to no other one.
+        self.assertEqual({function.__name__ for function, _ in CALLS} | {replayed.__name__}, names)
+
+    def test_all_modules_are_there(self):
+        for name in list(INTERFACE) + list(CLASSES) + ["errors"]:
+            self.assertTrue(os.path.isfile(os.path.join(FOLDER, name + ".py")), name)
 
     def test_what_is_passed_in_stays_and_what_is_returned_is_new(self):
         for function, given in CALLS:

@@ -12,13 +12,12 @@ from meankept.means import mean, mean_square, share
 from meankept.numbers import is_number
 from meankept.pictures import pictures
 from meankept.webs import web_of
-from tests.helpers import (NOT_DEEDS, NOT_WHOLES, back, check_first_wrong, drawn_renaming, houses_of,
+from tests.helpers import (NOT_DEEDS, NOT_PLACES, back, check_first_wrong, drawn_renaming, houses_of,
                            kept_counts, not_lists, not_rows, not_webs, plain_rows, some_lists, some_rows, some_webs,
                            step, tell, turned, worth)
 
 COMMUTATOR = (2, 4, ((0, 1, 1), (0, 2, 2), (1, 2, 3), (2, 1, 3)))
 WHOLE = (2, 1, ((0, 1, 0), (0, 2, 0)))
-NOT_PLACES = NOT_WHOLES + [0, -1, 1000001, 10 ** 29, -10 ** 29]
 
 
 def falling(top, many):

@@ -12,8 +12,8 @@ from meankept.means import share
 from meankept.pictures import joined, joint, laid, lies_over, part, pictures, pictures_of, seen
 from meankept.webs import free_list, is_over, is_web, makes, rank, web_of, ways
 from tests.helpers import (NOT_DEEDS, afresh, check_first_wrong, follow, houses_of, is_sound, join_naively, lead,
-                           lots_web, naive_pictures, not_houses, not_in, not_lists, not_webs, number_naively, some_lists,
-                           some_webs, worth)
+                           lots_web, naive_pictures, not_houses, not_in, not_lists, not_webs, number_naively,
+                           part_by_ties, some_lists, some_webs, worth)
 
 COMMUTATOR = (2, 4, ((0, 1, 1), (0, 2, 2), (1, 2, 3), (2, 1, 3)))
 SEVEN = [(2, 1, ((0, 1, 0), (0, 2, 0))), (2, 2, ((0, 1, 0), (0, 2, 1), (1, 1, 1))),
@@ -35,12 +35,6 @@ def naive_laid(inner, outer):
             found.append(given)
     assert len(found) <= 1
     return found[0] if found else None
-
-
-def part_by_ties(inner, outer, given):
-    """Return the web of the ties of outer that the ties of inner are given."""
-    now = ["first"] + list(range(1, outer[1]))
-    return number_naively(outer[0], {(now[given[p]], x, now[given[q]]) for p, x, q in inner[2]})
 
 
 def pairs_of_webs(many, seed):
