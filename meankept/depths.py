@@ -24,9 +24,7 @@ def excess_of_forms(forms):
 
 
 def divided_often(places, many):
-    """Return the number 1, divided so many times by places; times places for -1."""
-    if many < 0:
-        return places
+    """Return the number 1, divided so many times by places."""
     bottom = 1
     for _ in range(many):
         bottom *= places
@@ -80,4 +78,5 @@ def keeps_alone(deeds, rows):
     wanted = ((0, 1), (1,)) if many < 0 else ((1,), (0,) * many + (1,))
     if fraction_of_forms(forms) != wanted:
         return False
+    # A web of rank 0 has one place; so below there is a number of places only for a rank of 1 or more.
     return all([mean_of_forms(forms, places) == divided_often(places, many) for places in range(1, web[1])])

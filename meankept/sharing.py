@@ -47,8 +47,6 @@ def mean_of_forms(forms, places):
     """Return the sum of the shares of forms over houses of so many places, a number."""
     # What has more places than the house does not lie in it; no deed has more ties than there are places.
     fitting = {form: many for form, many in forms.items() if form[0] <= places}
-    if not fitting:
-        return 0
     lots = [ties for _, ties in fitting]
     most = [max(bounds) for bounds in zip(*lots)]
     top = 0

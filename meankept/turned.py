@@ -31,6 +31,11 @@ def inner_steps(web):
     return steps, first
 
 
+def many_inner(steps):
+    """Return how many places have steps; 0 for the inner place of a web without ties."""
+    return len(steps) - steps.count({})
+
+
 def looks_alike(one, place, other, mate):
     """Return whether the same letters lead from place and from mate, and so on from where they lead."""
     given = {place: mate}
@@ -57,8 +62,7 @@ def turners_web(web):
     if rank_of(web) == 0:
         return whole_web(deeds)
     steps, first = inner_steps(web)
-    now = [first if steps[place] != {} and looks_alike(steps, place, steps, first) else place
-           for place in range(places)]
+    now = [first if looks_alike(steps, place, steps, first) else place for place in range(places)]
     return web_of_ties(deeds, places, [(now[start], deed, now[end]) for start, deed, end in ties])
 
 
@@ -71,12 +75,13 @@ def web_turned(web, row):
 def turning_row(one, other):
     """Return a row by which one, turned, is other, None if there is none."""
     check_two_webs(one, other)
-    steps, first = inner_steps(one)
+    steps, _ = inner_steps(one)
     goal_steps, goal = inner_steps(other)
-    if steps.count({}) - one[1] != goal_steps.count({}) - other[1]:
+    # What leads on alike everywhere goes round a web with fewer inner places more than once.
+    if many_inner(steps) != many_inner(goal_steps):
         return None
     for place, way in enumerate(all_ways(one)):
-        if (steps[place] != {} or place == first) and looks_alike(steps, place, goal_steps, goal):
+        if looks_alike(steps, place, goal_steps, goal):
             return plain_letters(all_ways(other)[goal] + undone_letters(way))
     return None
 
